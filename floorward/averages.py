@@ -161,9 +161,11 @@ def walk(loop, floor, step, start):
     rounds = {}
     before = None
     x = start
-    # With "back" a round hangs on the guess before, too.
-    place = (before, x) if loop.stop == "back" else x
-    while place not in rounds:
+    while True:
+        # With "back" a round hangs on the guess before, too.
+        place = (before, x) if loop.stop == "back" else x
+        if place in rounds:
+            return Run(tuple(guesses), "swings", None, tuple(guesses[rounds[place]:]))
         rounds[place] = len(guesses)
         guesses.append(x)
         word, number = do_round(loop, floor, step, before, x)
@@ -171,8 +173,6 @@ def walk(loop, floor, step, start):
             return Run(tuple(guesses), word, number, ())
         before = x
         x = number
-        place = (before, x) if loop.stop == "back" else x
-    return Run(tuple(guesses), "swings", None, tuple(guesses[rounds[place]:]))
 
 
 def first_falling(loop, n, floor):

@@ -4,6 +4,7 @@ import itertools
 import math
 import time
 import unittest
+from unittest import mock
 
 from floorward.averages import Average, Run, tells
 from floorward.errors import BadLoop, BadNumber, BadStart
@@ -12,8 +13,8 @@ from tests.plain import (MENDS, STOPS, TELLINGS, all_ends, all_steps, plain_root
                          some_loops)
 
 HUGE = 10 ** 30000 - 12345678901234567891
-NO_INTEGERS = (True, False, None, 2.0, "2", b"2", (), [2], {}, object(), int)
-NO_WORDS = (None, 0, 1, True, "", "NOTLESS", "old ", b"old", ("old",), ["none"], {"none": 1}, object(), str)
+NO_INTEGERS = (True, False, None, 2.0, "2", b"2", (), [2], {}, object(), int, mock.ANY)
+NO_WORDS = (None, 0, 1, True, "", "NOTLESS", "old ", b"old", ("old",), ["none"], {"none": 1}, object(), str, mock.ANY)
 NO_NUMBERS = NO_INTEGERS + (-1, -10 ** 30000)
 NO_STARTS = NO_NUMBERS + (0,)
 
@@ -329,9 +330,11 @@ class TellsTest(unittest.TestCase):
     def test_small_numbers_with_great_guesses_behind_back(self):
         # beside small roots guesses leap far up, so that far starts are come back to
         for parts in all_steps():
-            loop = Average(*parts, "back", "more")
-            for n in (1, 2, 3, 7, 8, 14, 15, 26, 63, 80):
+            loop = Average(*parts, "back", "old")
+            for n in (1, 2, 3, 7, 8, 11, 12, 13, 14, 15, 26, 63, 80):
                 self.check(loop, n, 70)
+        # from 1 the guesses come back to 1; from 3 the first guess is come back to at once
+        self.assertEqual(tells(Average(4, 3, 1, -3, "back"), 12), (1, 3))
 
     def test_all_numbers_of_some_loops(self):
         for loop in (Average(2, 1, 1, 0, "equal"), Average(3, 2, 1, 0, "back", "less"),

@@ -2,11 +2,12 @@
 
 import ast
 import builtins
-import inspect
 import importlib
+import inspect
 import pathlib
 import re
 import unittest
+import warnings
 
 PACKAGE = pathlib.Path(__file__).resolve().parent.parent / "floorward"
 
@@ -51,6 +52,12 @@ class FormTest(unittest.TestCase):
             self.assertLessEqual(max(len(line) for line in lines), 120, path.name)
             for node in nodes_of(path, ast.FunctionDef):
                 self.assertLessEqual(node.end_lineno - node.lineno + 1, 40, (path.name, node.name))
+
+    def test_python_gives_no_warning(self):
+        with warnings.catch_warnings():
+            warnings.simplefilter("error")
+            for path in files():
+                compile(path.read_text(), str(path), "exec")
 
     def test_barred_words(self):
         for path in files():

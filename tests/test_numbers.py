@@ -3,13 +3,15 @@
 import math
 import time
 import unittest
+from unittest import mock
 
 from floorward.errors import BadNumber, BadPower
-from floorward.numbers import poly_product, poly_shift, poly_sum, poly_value, rest, root, sign_from
+from floorward.numbers import poly_product, poly_shift, poly_sum, poly_value, rest, root, sign_from, turnings
 
 HUGE = 10 ** 30000 - 12345678901234567891
-NO_NUMBERS = (-1, -10 ** 30000, True, False, None, 1.0, 4.5, "4", b"4", (), [], [4], {}, object(), int, 3 + 0j)
-NO_POWERS = (0, -1, 65, 10 ** 30000, True, False, None, 2.0, "2", b"2", (), [2], {}, object(), int)
+NO_NUMBERS = (-1, -10 ** 30000, True, False, None, 1.0, 4.5, "4", b"4", (), [], [4], {}, object(), int, 3 + 0j,
+              mock.ANY)
+NO_POWERS = (0, -1, 65, 10 ** 30000, True, False, None, 2.0, "2", b"2", (), [2], {}, object(), int, mock.ANY)
 
 
 class RootTest(unittest.TestCase):
@@ -196,6 +198,14 @@ class SignTest(unittest.TestCase):
         dip = product_of((-10, 3), (-11, 3))
         self.assertEqual([sign_from(dip, first) for first in (-50, 0, 3, 4)], [1, 1, 1, 1])
         self.assertEqual(sign_from([-c for c in dip], -50), -1)
+
+    def test_the_turnings_themselves(self):
+        self.assertEqual(turnings((-4, 1), 0), [4, 5])
+        self.assertEqual(turnings((-4, 1), 4), [5])
+        self.assertEqual(turnings((-7, 2), 0), [4])
+        self.assertEqual(turnings(product_of((-4, 1), (-4, 1)), 0), [4, 5])
+        self.assertEqual(turnings(product_of((-4, 1), (-5, 1), (3, 1)), -9), [-3, -2, 4, 6])
+        self.assertEqual(turnings((3,), 0), [])
 
     def test_small_polynomials_by_looking(self):
         factors = [(at, by) for by in (1, 2, -1) for at in range(-6, 7, 3)]
