@@ -175,9 +175,14 @@ def walk(loop, floor, step, start):
         x = number
 
 
+def reach_of(loop):
+    """Return how far a step may fall at most when the stop ends the run there."""
+    return REACHES.get(loop.stop, 0)
+
+
 def first_falling(loop, n, floor):
     """Return the least guess above the root from which the step falls too far for the stop; all greater ones do so."""
-    reach = REACHES.get(loop.stop, 0)
+    reach = reach_of(loop)
     x = floor + 1
     while x - next_guess(loop, n, x) <= reach:
         x += 1
@@ -195,6 +200,31 @@ def all_steps(loop, n, first, last):
     return steps
 
 
+def near_steps(loops, n, floor):
+    """Return the steps that the starts near the root need, and these starts; the loops have the same step.
+
+    Whatever starts further up falls, without an end, to one of these starts, or to where the last of them leads.
+    """
+    first = max(floor, 1)
+    last = max([first_falling(loop, n, floor) for loop in loops])
+    steps = all_steps(loops[0], n, first, last)
+    if "back" in [loop.stop for loop in loops]:
+        # A start up to the greatest of these guesses may be one to which a run comes back; beyond it none is.
+        last = 1 + max(list(steps))
+        steps = all_steps(loops[0], n, first, last)
+    return steps, list(range(first, last + 1))
+
+
+def next_turn(loop, n, steps):
+    """Return the least number above n for which one of these steps leads elsewhere than for n."""
+    turns = []
+    for x, y in steps.items():
+        # The step comes to y + 1 when the quotient by this power of x comes to be as great as this.
+        least = -((loop.a * x + loop.d - (loop.a + loop.c) * (y + 1)) // loop.c)
+        turns.append(least * power(x, loop.k - 1))
+    return min(turns)
+
+
 def outcomes(loop, floor, steps, starts):
     """Return what the runs from the starts come to: the numbers, ascending, then the words."""
     runs = [walk(loop, floor, lambda x: steps[x], start) for start in starts]
@@ -207,12 +237,5 @@ def tells(loop, n):
     """Return what the runs for n from all starts come to."""
     require_number(n)
     floor = root(n, loop.k)
-    first = max(floor, 1)
-    # Whatever starts further up falls, without an end, to a start of this stretch, or to where its last one leads.
-    last = first_falling(loop, n, floor)
-    steps = all_steps(loop, n, first, last)
-    if loop.stop == "back":
-        # A start up to the greatest of these guesses may be one to which a run comes back; beyond it none is.
-        last = 1 + max(list(steps))
-        steps = all_steps(loop, n, first, last)
-    return outcomes(loop, floor, steps, list(range(first, last + 1)))
+    steps, starts = near_steps([loop], n, floor)
+    return outcomes(loop, floor, steps, starts)

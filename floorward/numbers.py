@@ -116,9 +116,14 @@ def poly_shift(poly, by):
     return shifted
 
 
+def poly_minus(one, other):
+    """Return the first polynomial less the second one."""
+    return poly_sum(one, [-coefficient for coefficient in other])
+
+
 def poly_difference(poly):
     """Return the polynomial of what a polynomial rises from r to r + 1."""
-    return poly_sum(poly_shift(poly, 1), [-coefficient for coefficient in poly])
+    return poly_minus(poly_shift(poly, 1), poly)
 
 
 def sign_of(value):
@@ -173,3 +178,18 @@ def turning_between(poly, begin, end):
         else:
             high = middle
     return high
+
+
+def settled_from(poly, first):
+    """Return the least integer from first on from which on a trimmed polynomial keeps its sign."""
+    return max([first] + turnings(poly, first))
+
+
+def never_below_from(poly, first):
+    """Return the least integer from first on from which on a trimmed polynomial is never below 0, or None."""
+    if poly and poly[-1] < 0:
+        return None
+    for at in reversed(turnings(poly, first)):
+        if poly_value(poly, at - 1) < 0:
+            return at
+    return first

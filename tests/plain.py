@@ -84,3 +84,13 @@ def plain_tells(loop, n, starts):
         else:
             words.add(end)
     return tuple(sorted(numbers)) + tuple(sorted(words))
+
+
+def plain_window(loop):
+    """The least and the greatest gap of the window of [18]."""
+    m = loop.a + loop.c
+    e = {"near1": 1, "near2": 2}.get(loop.stop, 0)
+    gaps = [0]
+    for _ in range(60):
+        gaps.append(((loop.a - loop.c * (loop.k - 1)) * gaps[-1] + loop.d) // m)
+    return min(gaps), 1 + max(0, loop.d + e * m) // (loop.c * loop.k)

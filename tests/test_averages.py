@@ -6,7 +6,7 @@ import time
 import unittest
 from unittest import mock
 
-from floorward.averages import Average, Run, tells
+from floorward.averages import Average, Run, near_steps, next_turn, tells
 from floorward.errors import BadLoop, BadNumber, BadStart
 from floorward.numbers import rest, root
 from tests.plain import (MENDS, STOPS, TELLINGS, all_ends, all_steps, plain_root, plain_run, plain_step, plain_tells,
@@ -398,6 +398,31 @@ class TellsTest(unittest.TestCase):
             with self.assertRaises(BadNumber) as caught:
                 tells(Average(2, 1, 1, 0, "notless"), bad)
             self.assertIs(caught.exception.value, bad)
+
+
+class NearStepsTest(unittest.TestCase):
+    def test_the_steps_lead_as_they_do_until_the_next_turn(self):
+        for loop in some_loops(331):
+            for n in (1, 2, 7, 16, 80, 81, 255, 624, 1295, 2401):
+                steps, starts = near_steps([loop], n, plain_root(n, loop.k))
+                self.assertEqual(starts, list(range(starts[0], starts[-1] + 1)))
+                self.assertEqual(starts[0], plain_root(n, loop.k))
+                until = next_turn(loop, n, steps)
+                for number in {n, n + 1, until - 1}:
+                    if number < until:
+                        self.assertEqual(steps, {x: plain_step(loop, number, x) for x in steps})
+                self.assertNotEqual(steps, {x: plain_step(loop, until, x) for x in steps})
+
+    def test_several_loops_with_one_step_have_the_starts_that_each_needs(self):
+        for step in all_steps()[::9]:
+            loops = [Average(*step, stop) for stop in STOPS]
+            for n in (1, 30, 83):
+                floor = plain_root(n, step[0])
+                steps, starts = near_steps(loops, n, floor)
+                for loop in loops:
+                    own_steps, own_starts = near_steps([loop], n, floor)
+                    self.assertLessEqual(own_starts[-1], starts[-1])
+                    self.assertEqual({x: steps[x] for x in own_steps}, own_steps)
 
 
 if __name__ == "__main__":

@@ -15,11 +15,16 @@ FUNCTIONS = {
     "numbers": {"root": "n k", "rest": "n k", "poly_value": "poly r", "poly_sum": "one other",
                 "poly_product": "one other", "poly_shift": "poly by", "sign_from": "poly first"},
     "averages": {"tells": "loop n"},
+    "tables": {"table": "loop", "is_table": "loop thing", "stretches": "loop"},
+    "verdicts": {"fault": "loop", "is_right": "loop", "parting": "one other", "alike": "one other",
+                 "slower": "one other"},
+    "choosing": {"changed": "loop field value", "right_values": "loop field", "mends": "loop"},
 }
 CLASSES = {
     "averages": {"Average": {"__init__": "self k a c d stop told mend", "step": "self n x", "run": "self n start",
                              "text": "self", "__eq__": "self other"},
                  "Run": {"__eq__": "self other"}},
+    "verdicts": {"Fault": {}, "Parting": {}},
 }
 ALLOWED_BUILTINS = set("""len range enumerate zip min max sum abs sorted reversed int str bool list tuple dict set
     isinstance ord repr any all divmod iter next ValueError super""".split())

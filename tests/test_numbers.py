@@ -6,7 +6,8 @@ import unittest
 from unittest import mock
 
 from floorward.errors import BadNumber, BadPower
-from floorward.numbers import poly_product, poly_shift, poly_sum, poly_value, rest, root, sign_from, turnings
+from floorward.numbers import (never_below_from, poly_minus, poly_product, poly_shift, poly_sum, poly_value, rest, root,
+                               settled_from, sign_from, turnings)
 
 HUGE = 10 ** 30000 - 12345678901234567891
 NO_NUMBERS = (-1, -10 ** 30000, True, False, None, 1.0, 4.5, "4", b"4", (), [], [4], {}, object(), int, 3 + 0j,
@@ -261,6 +262,36 @@ class SignTest(unittest.TestCase):
         self.assertIsNone(sign_from((-5, 3, 0, 0, 0, 1), -HUGE))
         self.assertEqual(sign_from((1, 0, 1), -HUGE), 1)
         self.assertLess(time.process_time() - begun, 60)
+
+
+class FromSomeRootOnTest(unittest.TestCase):
+    def test_differences(self):
+        self.assertEqual(poly_minus((1, 2, 3), (1, 1)), (0, 1, 3))
+        self.assertEqual(poly_minus((1, 2, 3), [0, 2, 3, 0]), (1,))
+        self.assertEqual(poly_minus((), (0, 0, 5)), (0, 0, -5))
+        self.assertEqual(poly_minus((4, 0), (4,)), ())
+
+    def test_by_looking(self):
+        for low in range(-4, 5):
+            for middle in range(-5, 4):
+                for high in ((), (1,), (-1,), (-2, 1)):
+                    poly = poly_sum((low, middle) + high, ())
+                    for first in (-7, 0, 1, 4):
+                        self.assertEqual(settled_from(poly, first), self.slow_settled(poly, first), (poly, first))
+                        self.assertEqual(never_below_from(poly, first), self.slow_never_below(poly, first),
+                                         (poly, first))
+
+    def signs(self, poly, first):
+        """The signs at the integers from first to one behind which these polynomials keep theirs."""
+        return [(value > 0) - (value < 0) for value in [poly_value(poly, r) for r in range(first, 30)]]
+
+    def slow_settled(self, poly, first):
+        signs = self.signs(poly, first)
+        return min(at for at in range(len(signs)) if len(set(signs[at:])) == 1) + first
+
+    def slow_never_below(self, poly, first):
+        signs = self.signs(poly, first)
+        return min([first + at for at in range(len(signs)) if min(signs[at:]) >= 0], default=None)
 
 
 if __name__ == "__main__":
