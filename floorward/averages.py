@@ -2,6 +2,7 @@
 
 from floorward.errors import BadLoop, BadStart
 from floorward.numbers import is_from, is_within, power, require_number, root
+from floorward.parts import is_word
 
 STOPS = ("notless", "equal", "near1", "near2", "back", "under", "held")
 LOOKS = ("under", "held")
@@ -13,9 +14,19 @@ MOST_WEIGHT = 6
 REACHES = {"equal": 0, "near1": 1, "near2": 2}
 
 
-def is_word(value, words):
-    """Tell of any object whether it is one of the words."""
-    return isinstance(value, str) and value in words
+def is_loop_power(k):
+    """Tell of any object whether it is the power of some average loop."""
+    return is_within(k, 2, 4)
+
+
+def greatest_c(k, a):
+    """Return the greatest weight c that goes with a power and a weight a; where there is none, it is below 1."""
+    return min(a // (k - 1), MOST_WEIGHT - a)
+
+
+def possible_weights(k):
+    """Return the pairs of weights that average loops of a power may have, ascending."""
+    return [(a, c) for a in range(1, MOST_WEIGHT) for c in range(1, greatest_c(k, a) + 1)]
 
 
 def possible_tellings(stop):
@@ -25,11 +36,11 @@ def possible_tellings(stop):
 
 def wrong_part(k, a, c, d, stop, told, mend):
     """Return the name of the first part of an average loop that is not so, or None."""
-    if not is_within(k, 2, 4):
+    if not is_loop_power(k):
         return "k"
     if not is_within(a, 1, MOST_WEIGHT - 1):
         return "a"
-    if not is_within(c, 1, min(a // (k - 1), MOST_WEIGHT - a)):
+    if not is_within(c, 1, greatest_c(k, a)):
         return "c"
     if not is_within(d, -a, a + c):
         return "d"

@@ -1,7 +1,8 @@
 """Choosing: loops that differ from a loop in one part, and which of them are right."""
 
-from floorward.averages import MENDS, MOST_WEIGHT, STOPS, TELLINGS, Average, is_word
+from floorward.averages import MENDS, MOST_WEIGHT, STOPS, TELLINGS, Average
 from floorward.errors import BadField, BadLoop
+from floorward.parts import is_word
 from floorward.verdicts import is_right
 
 FIELDS = ("a", "c", "d", "stop", "told", "mend")

@@ -3,6 +3,7 @@
 from floorward.averages import outcomes, reach_of
 from floorward.numbers import is_int, never_below_from, poly_difference, poly_minus, poly_product, poly_shift
 from floorward.numbers import trimmed
+from floorward.parts import is_row
 
 
 def gap_step(loop, gap, quotient):
@@ -122,11 +123,6 @@ def gap_demands(loop, gap, bounds, aims):
             behind = cut_of(loop.k, gap, least_quotient(loop, gap, aim + 1))
             demands.append(poly_minus(behind, bounds[at + 1]))
     return demands
-
-
-def is_row(thing):
-    """Tell of any object whether it is a list or a tuple."""
-    return isinstance(thing, (list, tuple))
 
 
 def is_row_of_integers(thing):

@@ -1,10 +1,16 @@
 """The rounds of the document, word for word and slowly, to hold the program against."""
 
+import itertools
+
 from floorward.averages import Average
+from floorward.halves import Halves
+from floorward.steps import Steps
 
 STOPS = ("notless", "equal", "near1", "near2", "back", "under", "held")
 TELLINGS = ("old", "new", "less", "more")
 MENDS = ("none", "down", "up", "both")
+# Thirty thousand figures.
+HUGE = 10 ** 30000 - 12345678901234567891
 
 
 def plain_root(n, k):
@@ -30,6 +36,17 @@ def some_loops(every):
     """Each so-many-th of all possible loops."""
     loops = [step + end + (mend,) for step in all_steps() for end in all_ends() for mend in MENDS]
     return [Average(*parts) for parts in loops[::every]]
+
+
+def all_halves():
+    return [Halves(*parts) for parts in itertools.product((0, 1), ("upto", "below"), (0, 1), (0, 1),
+                                                          ("less", "most", "wide"), ("low", "high"), (-1, 0, 1))]
+
+
+def all_stepping():
+    """All loops with steps."""
+    return [Steps(*parts) for parts in itertools.product(("upto", "below"), ("half", "same", "double"), (1, 2),
+                                                         (-1, 0, 1))]
 
 
 def plain_step(loop, n, x):
@@ -94,3 +111,54 @@ def plain_window(loop):
     for _ in range(60):
         gaps.append(((loop.a - loop.c * (loop.k - 1)) * gaps[-1] + loop.d) // m)
     return min(gaps), 1 + max(0, loop.d + e * m) // (loop.c * loop.k)
+
+
+def plain_compare(kind, by, n, x):
+    """-1, 0 or 1 as [30] says."""
+    worth = {"root": lambda: x ** by, "share": lambda: by * x, "log": lambda: by ** x}[kind]()
+    return (worth > n) - (worth < n)
+
+
+def plain_answer(kind, by, n):
+    x = 0
+    while plain_compare(kind, by, n, x + 1) <= 0:
+        x += 1
+    return x
+
+
+def plain_passes(compared, test):
+    """Whether x with the compare `compared` compares as the test asks for."""
+    return {"upto": compared <= 0, "below": compared < 0}[test]
+
+
+def plain_halves(halves, compare, lo, hi):
+    """(mids, end, told) of a run of a loop with two ends; `compare` tells of a number how it compares."""
+    mids, seen = [], []
+    while {"less": lo < hi, "most": lo <= hi, "wide": hi - lo > 1}[halves.stop]:
+        if (lo, hi) in seen:
+            return tuple(mids), "swings", None
+        seen.append((lo, hi))
+        mid = (lo + hi + halves.up) // 2
+        mids.append(mid)
+        if plain_passes(compare(mid), halves.test):
+            lo = mid + halves.low
+        else:
+            hi = mid - halves.high
+    return tuple(mids), "told", {"low": lo, "high": hi}[halves.told] + halves.plus
+
+
+def plain_steps(steps, compare, x, p):
+    """(places, told) of a run of a loop with steps."""
+    places = []
+    while p >= steps.last:
+        places.append((x, p))
+        if plain_passes(compare(x + p), steps.test):
+            x, p = x + p, {"half": p // 2, "same": p, "double": 2 * p}[steps.after]
+        else:
+            p = p // 2
+    return tuple(places), x + steps.plus
+
+
+def compare_with(answer, hit):
+    """How numbers compare if this is the answer."""
+    return lambda x: -1 if x < answer or x == answer and not hit else 0 if x == answer else 1

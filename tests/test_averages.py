@@ -4,19 +4,13 @@ import itertools
 import math
 import time
 import unittest
-from unittest import mock
 
 from floorward.averages import Average, Run, near_steps, next_turn, tells
 from floorward.errors import BadLoop, BadNumber, BadStart
 from floorward.numbers import rest, root
-from tests.plain import (MENDS, STOPS, TELLINGS, all_ends, all_steps, plain_root, plain_run, plain_step, plain_tells,
-                         some_loops)
-
-HUGE = 10 ** 30000 - 12345678901234567891
-NO_INTEGERS = (True, False, None, 2.0, "2", b"2", (), [2], {}, object(), int, mock.ANY)
-NO_WORDS = (None, 0, 1, True, "", "NOTLESS", "old ", b"old", ("old",), ["none"], {"none": 1}, object(), str, mock.ANY)
-NO_NUMBERS = NO_INTEGERS + (-1, -10 ** 30000)
-NO_STARTS = NO_NUMBERS + (0,)
+from tests.plain import (HUGE, MENDS, STOPS, TELLINGS, all_ends, all_steps, plain_root, plain_run, plain_step,
+                         plain_tells, some_loops)
+from tests.wrong import NO_INTEGERS, NO_NUMBERS, NO_STARTS, NO_WORDS
 
 
 def parts_of(loop):

@@ -19,12 +19,28 @@ FUNCTIONS = {
     "verdicts": {"fault": "loop", "is_right": "loop", "parting": "one other", "alike": "one other",
                  "slower": "one other"},
     "choosing": {"changed": "loop field value", "right_values": "loop field", "mends": "loop"},
+    "backs": {"right_starts": "loop n most", "told_back": "k n guesses"},
+    "beginnings": {"too_low": "beginning k"},
+    "halves": {"halves_tells": "halves bracket", "halves_fault": "halves bracket"},
+    "steps": {"steps_tells": "steps", "steps_fault": "steps"},
+    "texts": {"read_loop": "text"},
 }
 CLASSES = {
     "averages": {"Average": {"__init__": "self k a c d stop told mend", "step": "self n x", "run": "self n start",
                              "text": "self", "__eq__": "self other"},
                  "Run": {"__eq__": "self other"}},
     "verdicts": {"Fault": {}, "Parting": {}},
+    "beginnings": {"Share": {"__init__": "self by more", "at": "self n k", "__eq__": "self other"},
+                   "Power": {"__init__": "self more", "at": "self n k", "__eq__": "self other"}},
+    "sought": {"Sought": {"__init__": "self kind by n", "compare": "self x", "answer": "self", "is_hit": "self"}},
+    "halves": {"Halves": {"__init__": "self up test low high stop told plus", "run": "self sought lo hi",
+                          "text": "self", "__eq__": "self other"},
+               "HalvesRun": {}},
+    "steps": {"Steps": {"__init__": "self test after last plus", "run": "self sought x p", "text": "self",
+                        "__eq__": "self other"},
+              "StepsRun": {}},
+    "led": {"Led": {"__init__": "self loop n start", "round": "self", "put": "self guess", "undo": "self",
+                    "trial": "self work", "twin": "self"}},
 }
 ALLOWED_BUILTINS = set("""len range enumerate zip min max sum abs sorted reversed int str bool list tuple dict set
     isinstance ord repr any all divmod iter next ValueError super""".split())

@@ -8,8 +8,8 @@ from unittest import mock
 from floorward.errors import BadNumber, BadPower
 from floorward.numbers import (never_below_from, poly_minus, poly_product, poly_shift, poly_sum, poly_value, rest, root,
                                settled_from, sign_from, turnings)
+from tests.plain import HUGE
 
-HUGE = 10 ** 30000 - 12345678901234567891
 NO_NUMBERS = (-1, -10 ** 30000, True, False, None, 1.0, 4.5, "4", b"4", (), [], [4], {}, object(), int, 3 + 0j,
               mock.ANY)
 NO_POWERS = (0, -1, 65, 10 ** 30000, True, False, None, 2.0, "2", b"2", (), [2], {}, object(), int, mock.ANY)
